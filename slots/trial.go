@@ -1,0 +1,35 @@
+package slots
+
+import "pennant/api"
+
+func (s *Slots) hasTrial() bool { return s.keeper.Record().Trial != none }
+
+// target is the slot that an image is taken into.
+func (s *Slots) target() int { return 1 - s.keeper.Record().Active }
+
+// intake is the header of the target, if that may be worked on: what is tried is left as it is.
+func (s *Slots) intake() (header, bool) {
+	if s.hasTrial() {
+		return header{}, false
+	}
+	return s.side(s.target()).header()
+}
+
+// endTrial lets there be no trial, and a slot be the active one.
+func (s *Slots) endTrial(active int) api.Errno {
+	b := s.keeper.Record()
+	b.Active, b.Trial, b.Tries = active, none, 0
+	return s.keeper.Save(b)
+}
+
+// noTrialKept tells by ErrOrder that there is a trial in the flash that the keeper knows nothing of: a Try whose power went behind its last byte was done, though it was not OK. To erase that slot would let a device begin with nothing.
+func (s *Slots) noTrialKept() api.Errno {
+	k, e := s.openKeeper()
+	if e != api.OK {
+		return e
+	}
+	if k.Record().Trial != none {
+		return api.ErrOrder
+	}
+	return api.OK
+}
