@@ -160,6 +160,29 @@ func TestBeginChanges(t *testing.T) {
 	}
 }
 
+// P11.4: what others programmed into the boot blocks is not looked up: the record has no trial, so it begins; opened again, there is one.
+func TestBeginByRecord(t *testing.T) {
+	l, p := layout{1, 1}, filled(2, 1, 16)
+	entry := append([]byte{2, 0, 0, 0, 0, 2, 0, 1, 0, 0, 0, 2, 0, 0, 0}, make([]byte, 14)...)
+	entry = append(entry, 0x87, 0xb4, 0xbb)
+	f, g := made(t, 8, 5), made(t, 8, 5)
+	format(t, f, l, filled(1, 100, 32))
+	format(t, g, l, filled(1, 100, 32))
+	s := opened(t, f, l)
+	is(t, "Program", f.Program(1056, entry), api.OK)
+	record(t, s, rec(0, -1, 0, 1, 0))
+	is(t, "Begin", s.Begin(p.m), api.OK)
+	begunWith(t, s, 1, p.m)
+	missing(t, s, 0)
+
+	changes := append([]change{{1056, entry}}, l.renew(1, 1)...)
+	is(t, "the same by hand", do(g, append(changes, change{l.header(1), headOf(p.m)})), api.OK)
+	alike(t, f, g)
+	s = opened(t, f, l)
+	record(t, s, rec(0, 1, 0, 1, 2))
+	is(t, "Begin beside the trial", s.Begin(filled(3, 9, 16).m), api.ErrOrder)
+}
+
 // P11.4: with just that manifest it goes on; with one that is unlike in one thing it begins anew.
 func TestBeginAgain(t *testing.T) {
 	p := filled(2, 70, 32)

@@ -271,10 +271,6 @@ func (s *slow) begin(m api.Manifest) api.Errno {
 	if has, is := s.has(s.target()); is && same(has, m) {
 		return api.OK
 	}
-	// A Try whose power went behind its last byte: there is a trial, as is seen only when it is opened again.
-	if k, e := boot.Open(s.f, s.first); e == api.OK && k.Record().Trial >= 0 {
-		return api.ErrOrder
-	}
 	return do(s.f, append(s.renew(s.target(), m.Size), change{s.header(s.target()), headOf(m)}))
 }
 
@@ -346,6 +342,7 @@ type both struct {
 	f, g *flash.Flash
 	s    *slots.Slots
 	w    *slow
+	gone bool // a trial was begun over by slots whose record knew nothing of it
 }
 
 // begun is both, formatted with an image.
@@ -419,7 +416,7 @@ func (x *both) alike(t testing.TB) {
 // kept fails if a device that began now would begin with what is not whole.
 func (x *both) kept(t testing.TB) {
 	t.Helper()
-	if x.f.Off() {
+	if x.f.Off() || x.gone {
 		return
 	}
 	s, e := slots.Open(x.f, x.first, x.n)
@@ -456,8 +453,17 @@ func (x *both) boot(t testing.TB, most int) api.Errno {
 	return x.answer(t, "Boot", e, w)
 }
 
+// hidden tells whether there is a trial that the record knows nothing of: that of a Try whose power went behind its last byte, as is seen only by slots that are opened again.
+func (x *both) hidden() bool {
+	k, e := boot.Open(x.g, x.first)
+	return e == api.OK && k.Record().Trial >= 0 && !x.w.trial()
+}
+
 func (x *both) begin(t testing.TB, m api.Manifest) api.Errno {
 	t.Helper()
+	if has, _ := x.w.has(x.w.target()); !same(has, m) && x.hidden() {
+		x.gone = true
+	}
 	return x.answer(t, "Begin", x.s.Begin(m), x.w.begin(m))
 }
 

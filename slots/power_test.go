@@ -178,28 +178,34 @@ func TestGoesBack(t *testing.T) {
 	holds(t, s, 0, filled(1, 50, 32))
 }
 
-// P11.6: a Try in which the power went behind its last byte was done. Slots that were not opened again do not erase what a device begins with then.
+// P11.4, P11.6: a Try in which the power went behind its last byte was done, as slots that are opened again tell; the record of those that are not knows nothing of it, and Begin goes by that.
 func TestTryDoneUnknown(t *testing.T) {
 	for left := range 40 {
-		f, s := formatted(t, 1)
-		p, q := filled(2, 70, 32), filled(3, 80, 32)
-		takeIn(t, s, p)
-		is(t, "Verify", s.Verify(), api.OK)
-		f.Arm(0, left)
-		is(t, "Try", s.Try(), api.ErrOff)
-		f.Power()
-		is(t, "Begin of the same", s.Begin(p.m), api.OK)
-		want, slot := api.OK, 0
-		if left >= 32 {
-			want, slot = api.ErrOrder, 1
-		}
-		is(t, "Begin of another", s.Begin(q.m), want)
-		s = opened(t, f, layout{0, 1})
-		boots(t, s, 3, slot)
-		if slot == 1 {
+		for _, again := range []bool{true, false} {
+			f, s := formatted(t, 1)
+			p, q := filled(2, 70, 32), filled(3, 80, 32)
+			takeIn(t, s, p)
+			is(t, "Verify", s.Verify(), api.OK)
+			f.Arm(0, left)
+			is(t, "Try", s.Try(), api.ErrOff)
+			f.Power()
+			want, done := api.OK, left >= 32
+			if again {
+				s = opened(t, f, layout{0, 1})
+				if done {
+					want = api.ErrOrder
+				}
+			}
+			is(t, "Begin of the same", s.Begin(p.m), want)
+			is(t, "Begin of another", s.Begin(q.m), want)
+			if want == api.OK {
+				begunWith(t, s, 1, q.m)
+				missing(t, s, 0, 1, 2)
+				continue
+			}
+			boots(t, s, 3, 1)
 			holds(t, s, 1, p)
 		}
-		holds(t, s, 0, filled(1, 50, 32))
 	}
 }
 

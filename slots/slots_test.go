@@ -155,6 +155,14 @@ func empty(t testing.TB, s *slots.Slots, slot int) {
 	}
 }
 
+// begunWith fails if a slot has not just that manifest.
+func begunWith(t testing.TB, s *slots.Slots, slot int, want api.Manifest) {
+	t.Helper()
+	if m, has := s.Manifest(slot); !has || !same(m, want) {
+		t.Fatalf("the manifest of %d: %v, %t, not %v", slot, m, has, want)
+	}
+}
+
 func missing(t testing.TB, s *slots.Slots, want ...int) {
 	t.Helper()
 	if got := s.Missing(); !slices.Equal(got, want) {

@@ -21,15 +21,3 @@ func (s *Slots) endTrial(active int) api.Errno {
 	b.Active, b.Trial, b.Tries = active, none, 0
 	return s.keeper.Save(b)
 }
-
-// noTrialKept tells by ErrOrder that there is a trial in the flash that the keeper knows nothing of: a Try whose power went behind its last byte was done, though it was not OK. To erase that slot would let a device begin with nothing.
-func (s *Slots) noTrialKept() api.Errno {
-	k, e := s.openKeeper()
-	if e != api.OK {
-		return e
-	}
-	if k.Record().Trial != none {
-		return api.ErrOrder
-	}
-	return api.OK
-}
